@@ -1,0 +1,44 @@
+"""The interface: each name, its arguments, and the file in which it is defined."""
+
+import importlib
+import inspect
+import unittest
+
+FUNCTIONS = {
+    "tables": {
+        "is_journal": ["table", "thing"], "is_plates": ["table", "journal", "thing"],
+        "present": ["table", "journal"], "sources": ["table", "journal", "deed"], "fresh": ["table"],
+    },
+    "deriving": {
+        "derived": ["table", "journal", "plates"], "redo": ["table", "journal", "plates"],
+        "lost": ["table", "journal", "plates"], "is_safe": ["table", "journal", "thing"],
+        "can_cut": ["table", "journal", "plates"],
+    },
+}
+CLASSES = {"tables": {"Table": {"__init__": ["self", "cells", "kinds"], "__eq__": ["self", "other"]}}}
+
+
+def arguments_of(action):
+    return list(inspect.signature(action).parameters)
+
+
+class InterfaceTests(unittest.TestCase):
+    def test_functions(self):
+        for file, names in FUNCTIONS.items():
+            module = importlib.import_module("laidplates." + file)
+            for name, arguments in names.items():
+                action = getattr(module, name)
+                self.assertEqual(action.__module__, module.__name__)
+                self.assertEqual(arguments_of(action), arguments, name)
+
+    def test_classes(self):
+        for file, names in CLASSES.items():
+            module = importlib.import_module("laidplates." + file)
+            for name, methods in names.items():
+                self.assertEqual(getattr(module, name).__module__, module.__name__)
+                for method, arguments in methods.items():
+                    self.assertEqual(arguments_of(vars(getattr(module, name))[method]), arguments, method)
+
+
+if __name__ == "__main__":
+    unittest.main()
