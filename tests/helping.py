@@ -2,7 +2,7 @@
 
 from itertools import product
 
-from laidplates.errors import BadTable, NoJournal
+from laidplates.errors import BadTable, NoJournal, NoPlates, NotSafe
 from laidplates.tables import Table
 
 T = Table(2, ((0, (1,)), (1, (0,))))
@@ -120,9 +120,10 @@ def plates_of(table, journal):
 
 
 def some_table(dice, cells, most_kinds):
+    """Most of its kinds read something, as else there is little to lose."""
     kinds = set()
     for _ in range(1 + dice.roll(most_kinds)):
-        reads = {dice.roll(cells) for _ in range(dice.roll(4))}
+        reads = {dice.roll(cells) for _ in range(dice.roll(3) + 1 if dice.roll(9) else 0)}
         kinds.add((dice.roll(cells), tuple(sorted(reads))))
     return Table(cells, tuple(sorted(kinds)))
 
@@ -145,3 +146,29 @@ def some_cases(seed, many, cells, deeds):
         journal = some_journal(dice, table, dice.roll(deeds + 1))
         cases.append((table, journal, some_plates(dice, table, journal)))
     return cases
+
+
+# Tables, journals and safe plates, not fresh, where some first steps that are safe lead nowhere.
+WITH_DEAD_ENDS = [
+    (Table(4, ((0, (0,)), (0, (1, 2)), (0, (2, 3)), (0, (3,)), (1, ()), (1, (0, 1)), (2, (0, 2, 3)), (2, (3,)),
+               (3, (0, 2)), (3, (2,)))), (3, 8, 5, 1, 6, 5, 8), (0, -2, -3, -4)),
+    (Table(4, ((0, (0, 2, 3)), (1, (0, 2, 3)), (1, (1,)), (2, (1, 2, 3)), (3, (0, 2)), (3, (1, 2)), (3, (1, 3)))),
+     (4, 5, 3, 6, 0, 1, 0, 4), (-1, -2, -3, 3)),
+    (Table(3, ((0, (1,)), (0, (2,)), (1, (0,)), (1, (0, 1)), (1, (0, 2)), (2, (0, 1)), (2, (1, 2)))),
+     (2, 1, 5, 3, 1, 5), (1, 0, -3)),
+    (Table(5, ((0, (1, 2, 3)), (0, (2,)), (1, (0, 2)), (1, (1,)), (1, (3,)), (2, (2, 3)), (2, (3,)), (3, ()),
+               (3, (0, 1)), (3, (1, 2)), (4, ()))), (9, 2, 0, 8, 7, 8, 7), (-1, -2, -3, 0, -5)),
+]
+
+
+def check_refusals_of_safe_plates(test, action, *more):
+    """What takes safe plates of T and something more names NoJournal, NoPlates, NotSafe in this order."""
+    for thing in things():
+        if not is_journal_by_hand(T, thing):
+            test.assertIs(type(raised(action, T, thing, (-1, -2), *more)), NoJournal)
+            test.assertIs(type(raised(action, T, thing, thing, *more)), NoJournal)
+        if not is_plates_by_hand(T, (0, 1), thing):
+            test.assertIs(type(raised(action, T, (0, 1), thing, *more)), NoPlates)
+    test.assertIs(type(raised(action, T, (0, 1), (-1, 1), *more)), NotSafe)
+    test.assertIs(type(raised(action, T, [0, 1], (-1, 1), *more)), NoJournal)
+    test.assertIs(type(raised(action, T, (0, 1), (-1, True), *more)), NoPlates)

@@ -3,7 +3,10 @@
 import unittest
 
 from laidplates.deriving import can_cut, derived, lost, redo
+from laidplates.layings import count_layings, harmed, lay_out
 from laidplates.tables import Table, fresh, present, sources
+from laidplates.webs import knots, row_of, sound
+from laidplates.worlds import bits_of
 
 t = Table(2, ((0, (1,)), (1, (0,))))
 f = Table(2, ((0, (0, 1)), (1, (0,))))
@@ -20,6 +23,19 @@ class ExampleTests(unittest.TestCase):
         self.assertEqual(lost(t, (0, 1), (-1, 1)), (0,))
         self.assertEqual(redo(t, (0, 1), (-1, -2)), (0, 1))
         self.assertEqual(can_cut(t, (0, 1), (0, -2)), 1)
+
+    def test_e03(self):
+        self.assertEqual(bits_of(t, (0, 1), ((0, 1), (1, 0)), (0, 1)), (1, 0))
+
+    def test_e04(self):
+        self.assertEqual(harmed(t, (0, 1), (-1, -2), 1), (0,))
+        self.assertEqual(lay_out(t, (0, 1), (-1, -2)), (0, 1))
+        self.assertEqual(count_layings(t, (0, 1), (-1, -2)), 1)
+
+    def test_e05(self):
+        self.assertEqual(knots(t), [(0, 1)])
+        self.assertEqual(row_of(t, (0, 1)), (0, 1))
+        self.assertEqual(sound(f), [])
 
 
 if __name__ == "__main__":

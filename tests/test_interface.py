@@ -14,6 +14,17 @@ FUNCTIONS = {
         "lost": ["table", "journal", "plates"], "is_safe": ["table", "journal", "thing"],
         "can_cut": ["table", "journal", "plates"],
     },
+    "worlds": {
+        "bits_of": ["table", "journal", "functions", "begin"], "parting": ["table", "journal", "plates"],
+        "is_parting": ["table", "journal", "plates", "thing"],
+    },
+    "layings": {
+        "harmed": ["table", "journal", "plates", "cell"], "lay_out": ["table", "journal", "plates"],
+        "is_laying_out": ["table", "journal", "plates", "thing"], "count_layings": ["table", "journal", "plates"],
+        "at_once": ["table", "journal", "plates"],
+    },
+    "bars": {"bar": ["table", "journal", "plates"], "is_bar": ["table", "journal", "plates", "thing"]},
+    "webs": {"knots": ["table"], "sound": ["table"], "row_of": ["table", "knot"]},
 }
 CLASSES = {"tables": {"Table": {"__init__": ["self", "cells", "kinds"], "__eq__": ["self", "other"]}}}
 
