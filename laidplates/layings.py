@@ -61,8 +61,16 @@ def safe_lots(table, journal, plates):
 
 def orders(table, journal, plates):
     """A dict from each lot that can be laid one by one to an order in which it can."""
+    return orders_through(safe_lots(table, journal, plates))
+
+
+def orders_through(lots):
+    """A dict from each of the lots that can be laid by going through them to an order of this.
+
+    Each lot stands behind its parts in the list.
+    """
     found = {(): ()}
-    for lot in safe_lots(table, journal, plates):
+    for lot in lots:
         for cell in lot:
             ahead = without_cells(lot, (cell,))
             if ahead in found:

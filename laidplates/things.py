@@ -40,3 +40,14 @@ def is_bits(many, thing):
         if not is_number_below(2, bit):
             return False
     return True
+
+
+def is_step(word, end, thing):
+    """Whether the thing is a pair of this word and of an integer from 0 on, below the end."""
+    if not isinstance(thing, tuple) or len(thing) != 2:
+        return False
+    return is_word(word, thing[0]) and is_number_below(end, thing[1])
+
+
+def is_word(word, thing):
+    return isinstance(thing, str) and thing == word

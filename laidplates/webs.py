@@ -10,6 +10,11 @@ def changing(table):
     return tuple([cell for cell in range(table.cells) if cell in written])
 
 
+def writer(table, cell):
+    """The first kind that writes a cell that changes."""
+    return [kind[0] for kind in table.kinds].index(cell)
+
+
 def ties(table):
     """A dict whose keys are the ties (r, w)."""
     cells = changing(table)
@@ -82,6 +87,12 @@ def row_from(near, end):
 def sound(table):
     """The list of the sound ones among the knots."""
     return [knot for knot in knots(table) if row_of(table, knot) is not None and not reads_two(table, knot)]
+
+
+def unsound(table):
+    """The list of the knots that are not sound; none has one cell alone."""
+    good = sound(table)
+    return [knot for knot in knots(table) if knot not in good]
 
 
 def reads_two(table, knot):

@@ -1,6 +1,6 @@
 """What several tests need: objects of every kind, and the promises worked out by hand."""
 
-from itertools import product
+from itertools import permutations, product
 
 from laidplates.errors import BadTable, NoJournal, NoPlates, NotSafe
 from laidplates.tables import Table
@@ -146,6 +146,168 @@ def some_cases(seed, many, cells, deeds):
         journal = some_journal(dice, table, dice.roll(deeds + 1))
         cases.append((table, journal, some_plates(dice, table, journal)))
     return cases
+
+
+def table_of(cells, kinds):
+    return Table(cells, tuple(sorted({(cell, tuple(sorted(reads))) for cell, reads in kinds})))
+
+
+def tied(cells, pairs, more=()):
+    """A table with just these ties (r, w), and a kind that reads nothing for each cell tied."""
+    kinds = [(w, (r,)) for r, w in pairs] + [(cell, ()) for pair in pairs for cell in pair]
+    return table_of(cells, kinds + list(more))
+
+
+def changing_by_hand(table):
+    return sorted({kind[0] for kind in table.kinds})
+
+
+def ties_by_hand(table):
+    return {(r, w) for w, reads in table.kinds for r in reads if r != w and r in changing_by_hand(table)}
+
+
+def is_led(pairs, a, b):
+    """Whether ties lead from a to b, by going from cell to cell."""
+    seen, coming = {a}, [a]
+    while coming:
+        cell = coming.pop()
+        for r, w in pairs:
+            if r == cell and w not in seen:
+                seen.add(w)
+                coming.append(w)
+    return b in seen
+
+
+def knots_by_hand(table):
+    cells = changing_by_hand(table)
+    pairs = ties_by_hand(table)
+    return sorted({tuple(b for b in cells if is_led(pairs, a, b) and is_led(pairs, b, a)) for a in cells})
+
+
+def row_by_hand(table, knot):
+    pairs = [(r, w) for r, w in ties_by_hand(table) if r in knot and w in knot]
+    for row in permutations(knot):
+        if all(abs(row.index(r) - row.index(w)) == 1 for r, w in pairs):
+            return row
+    return None
+
+
+def sound_by_hand(table):
+    found = []
+    for knot in knots_by_hand(table):
+        reading = [len(set(reads) & set(knot)) for cell, reads in table.kinds if cell in knot]
+        if row_by_hand(table, knot) is not None and max(reading) < 2:
+            found.append(knot)
+    return found
+
+
+def ends_by_hand(table, journal):
+    """The pair of the sources of all deeds and the presents, in one pass."""
+    last = [-1 - cell for cell in range(table.cells)]
+    rows = []
+    for deed, kind in enumerate(journal):
+        cell, reads = table.kinds[kind]
+        rows.append([last[read] for read in reads])
+        last[cell] = deed
+    return rows, last
+
+
+def all_come_back(rows, last, there):
+    """Whether all presents do, by going back from them to what is there."""
+    seen, coming = set(there), list(last)
+    while coming:
+        version = coming.pop()
+        if version not in seen:
+            if version < 0:
+                return False
+            seen.add(version)
+            coming.extend(rows[version])
+    return True
+
+
+def goes_kept(table, journal, plates, order, kept=()):
+    """Whether the cells can be laid in this order, the elder copies of those kept staying."""
+    rows, last = ends_by_hand(table, journal)
+    plates, elder = list(plates), [plates[cell] for cell in kept]
+    for cell in order:
+        plates[cell] = last[cell]
+        if not all_come_back(rows, last, plates + elder):
+            return False
+    return True
+
+
+def can_lay_out(table, journal, plates, kept=()):
+    """Whether there is a laying out, by going through the orders of laying, from safe plates."""
+    rows, last = ends_by_hand(table, journal)
+    elder = [plates[cell] for cell in kept]
+    dead = set()
+
+    def goes_on(now):
+        if now in dead:
+            return False
+        dead.add(now)
+        if not all_come_back(rows, last, [*now, *elder]):
+            return False
+        further = [cell for cell in range(table.cells) if now[cell] != last[cell]]
+        return not further or any(goes_on(now[:cell] + (last[cell],) + now[cell + 1:]) for cell in further)
+
+    return goes_on(tuple(plates))
+
+
+def begins(table):
+    return tuple(-1 - cell for cell in range(table.cells))
+
+
+def sticks_by_hand(table, journal, kept=()):
+    return not can_lay_out(table, journal, begins(table), kept)
+
+
+def all_journals(table, deeds):
+    """All journals of just so many deeds, by the order of tuples."""
+    return product(range(len(table.kinds)), repeat=deeds)
+
+
+def all_lots(cells):
+    return [tuple(cell for cell in range(cells) if bits >> cell & 1) for bits in range(2 ** cells)]
+
+
+def tables_of_two_cells():
+    """All tables of two cells."""
+    kinds = [(cell, reads) for cell in range(2) for reads in ((), (0,), (0, 1), (1,))]
+    for bits in range(1, 2 ** len(kinds)):
+        yield Table(2, tuple(kind for at, kind in enumerate(kinds) if bits >> at & 1))
+
+
+def filled_up(dice, table, many):
+    """The table with further kinds, up to so many, none of which makes a tie or reads more of a knot.
+
+    Each one reads some of what another one reads, and perhaps a cell that never changes.
+    """
+    kinds = set(table.kinds)
+    still = [cell for cell in range(table.cells) if cell not in changing_by_hand(table)]
+    for _ in range(20 * many):
+        cell, reads = sorted(kinds)[dice.roll(len(kinds))]
+        more = {read for read in reads if dice.roll(3)}
+        if still and len(more) < 3:
+            more.add(still[dice.roll(len(still))])
+        if len(kinds) < many:
+            kinds.add((cell, tuple(sorted(more))))
+    return Table(table.cells, tuple(sorted(kinds)))
+
+
+def ring(cells, both=False, more=()):
+    """A ring of cells, each reading the next one; perhaps the other way round, too."""
+    kinds = [(cell, ((cell + 1) % cells,)) for cell in range(cells)]
+    if both:
+        kinds += [((cell + 1) % cells, (cell,)) for cell in range(cells)]
+    return Table(max([cells] + [1 + max((cell, *reads)) for cell, reads in more]), tuple(sorted({*kinds, *more})))
+
+
+def row(order, cells=None, more=()):
+    """Cells in a row, each reading its neighbours, by kinds that read one cell alone."""
+    pairs = list(zip(order, order[1:]))
+    kinds = [(a, (b,)) for a, b in pairs] + [(b, (a,)) for a, b in pairs] + [(cell, ()) for cell in order]
+    return Table(cells or max(order) + 1, tuple(sorted({*kinds, *more})))
 
 
 # Tables, journals and safe plates, not fresh, where some first steps that are safe lead nowhere.

@@ -4,6 +4,10 @@ import unittest
 
 from laidplates.deriving import can_cut, derived, lost, redo
 from laidplates.layings import count_layings, harmed, lay_out
+from laidplates.places import fewest_places
+from laidplates.runs import never_stuck
+from laidplates.standings import count_sticking, shortest_sticking
+from laidplates.sticking import is_sticking, never_sticks
 from laidplates.tables import Table, fresh, present, sources
 from laidplates.webs import knots, row_of, sound
 from laidplates.worlds import bits_of
@@ -36,6 +40,18 @@ class ExampleTests(unittest.TestCase):
         self.assertEqual(knots(t), [(0, 1)])
         self.assertEqual(row_of(t, (0, 1)), (0, 1))
         self.assertEqual(sound(f), [])
+
+    def test_e06(self):
+        self.assertIs(never_sticks(t), True)
+        self.assertIs(is_sticking(f, (0, 1, 0)), True)
+
+    def test_e07(self):
+        self.assertEqual(shortest_sticking(f), (0, 1, 0))
+        self.assertEqual(count_sticking(f, 3), 1)
+
+    def test_e08(self):
+        self.assertIs(never_stuck(t), True)
+        self.assertEqual(fewest_places(f), 1)
 
 
 if __name__ == "__main__":

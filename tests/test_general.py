@@ -6,8 +6,12 @@ import unittest
 from helping import F, T, WITH_DEAD_ENDS, raised, some_cases
 from laidplates.bars import bar, is_bar
 from laidplates.deriving import can_cut, derived, is_safe, lost, redo
-from laidplates.errors import BadTable, NoCell, NoDeed, NoJournal, NoKnot, NoPlates
+from laidplates.errors import BadTable, NoCell, NoDeed, NoJournal, NoKnot, NoLot, NoNumber, NoPlates, NoRun
 from laidplates.layings import at_once, count_layings, harmed, is_laying_out, lay_out
+from laidplates.places import fewest_places, is_enough, lay_out_kept, sticking_kept
+from laidplates.runs import behind, is_plain, is_run, is_stuck_run, stuck_run
+from laidplates.standings import count_sticking, shortest_sticking
+from laidplates.sticking import is_sticking, sticking
 from laidplates.tables import Table, fresh, is_journal, is_plates, present, sources
 from laidplates.webs import knots, row_of, sound
 from laidplates.worlds import is_parting, parting
@@ -34,6 +38,15 @@ def answers(table, journal, plates):
     told += [harmed(table, journal, plates, cell) for cell in range(table.cells)]
     if is_safe(table, journal, plates):
         told += [action(table, journal, plates) for action in OF_SAFE_PLATES]
+    told += [lay_out_kept(table, journal, (0,)), behind(table, tuple(("do", kind) for kind in journal))]
+    return told + answers_of_table(table)
+
+
+def answers_of_table(table):
+    told = [sticking(table), sticking_kept(table, ()), sticking_kept(table, (0,)), fewest_places(table)]
+    told += [stuck_run(table)] if is_plain(table) else []
+    if table.cells < 4:
+        told += [shortest_sticking(table), count_sticking(table, 5)]
     return told
 
 
@@ -59,10 +72,16 @@ class GeneralTests(unittest.TestCase):
         self.assertIs(type(raised(harmed, T, (0, 1), (0, 1), False)), NoCell)
         self.assertIs(type(raised(row_of, T, (False, True))), NoKnot)
         self.assertIs(type(raised(row_of, T, [0, 1])), NoKnot)
+        self.assertIs(type(raised(count_sticking, T, True)), NoNumber)
+        self.assertIs(type(raised(behind, T, (("do", True),))), NoRun)
+        self.assertIs(type(raised(behind, T, [("do", 1)])), NoRun)
+        self.assertIs(type(raised(lay_out_kept, T, (), (False,))), NoLot)
+        self.assertIs(type(raised(sticking_kept, T, [0])), NoLot)
 
     def test_arguments_are_not_changed(self):
         told = bar(F, (0, 1, 0), (-1, -2))
-        things = [told, {(): [("harm", 1), ["harm", 0]]}, [[0], {"a": [1]}], ([0], [1]), {(0,): [{}]}]
+        things = [told, {(): [("harm", 1), ["harm", 0]]}, [[0], {"a": [1]}], ([0], [1]), {(0,): [{}]},
+                  [["do", 0], ["lay", 0]], (["do", 0], ["sweep"])]
         for thing in things:
             kept = copy.deepcopy(thing)
             is_journal(T, thing)
@@ -72,6 +91,9 @@ class GeneralTests(unittest.TestCase):
             is_laying_out(T, (0, 1), (-1, -2), thing)
             is_bar(F, (0, 1, 0), (-1, -2), thing)
             raised(row_of, T, thing)
+            for action in (is_sticking, count_sticking, is_run, is_stuck_run, behind, is_enough, sticking_kept):
+                raised(action, F, thing)
+            raised(lay_out_kept, F, (0, 1), thing)
             self.assertEqual(thing, kept)
         self.assertEqual((T.cells, T.kinds), (2, ((0, (1,)), (1, (0,)))))
 
@@ -92,6 +114,9 @@ class GeneralTests(unittest.TestCase):
             self.assertIs(type(raised(harmed, T, (0, 1), (0, 1), great)), NoCell)
             self.assertIs(type(raised(row_of, T, (0, great))), NoKnot)
             self.assertIs(is_laying_out(T, (0, 1), (-1, -2), (0, great)), False)
+            self.assertIs(type(raised(count_sticking, T, great)), NoNumber)
+            self.assertIs(type(raised(behind, T, (("do", great),))), NoRun)
+            self.assertIs(type(raised(lay_out_kept, T, (0,), (great,))), NoLot)
 
     def test_what_was_returned_may_be_passed_on(self):
         for table, journal, plates in CASES:
@@ -105,6 +130,9 @@ class GeneralTests(unittest.TestCase):
                 order, told = lay_out(table, journal, start), bar(table, journal, start)
                 self.assertIs(is_laying_out(table, journal, start, order), order is not None)
                 self.assertIs(is_bar(table, journal, start, told), told is not None)
+            self.assertIs(is_sticking(table, sticking(table)), sticking(table) is not None)
+            if is_plain(table):
+                self.assertIs(is_stuck_run(table, stuck_run(table)), stuck_run(table) is not None)
 
 
 if __name__ == "__main__":

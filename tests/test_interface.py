@@ -25,6 +25,16 @@ FUNCTIONS = {
     },
     "bars": {"bar": ["table", "journal", "plates"], "is_bar": ["table", "journal", "plates", "thing"]},
     "webs": {"knots": ["table"], "sound": ["table"], "row_of": ["table", "knot"]},
+    "sticking": {"never_sticks": ["table"], "is_sticking": ["table", "thing"], "sticking": ["table"]},
+    "standings": {"shortest_sticking": ["table"], "count_sticking": ["table", "many"]},
+    "runs": {
+        "is_run": ["table", "thing"], "is_stuck_run": ["table", "thing"], "is_plain": ["table"],
+        "never_stuck": ["table"], "behind": ["table", "run"], "stuck_run": ["table"],
+    },
+    "places": {
+        "lay_out_kept": ["table", "journal", "lot"], "is_enough": ["table", "thing"], "fewest_places": ["table"],
+        "sticking_kept": ["table", "lot"],
+    },
 }
 CLASSES = {"tables": {"Table": {"__init__": ["self", "cells", "kinds"], "__eq__": ["self", "other"]}}}
 

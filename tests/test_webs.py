@@ -1,65 +1,13 @@
 """[4.1], and [0.3], [0.4] for laidplates.webs."""
 
 import unittest
-from itertools import permutations, product
+from itertools import product
 
-from helping import F, T, Dice, is_row_of_numbers, raised, some_table, things
+from helping import (F, T, Dice, is_row_of_numbers, knots_by_hand, raised, row_by_hand, some_table, sound_by_hand,
+                     things, tied)
 from laidplates.errors import NoKnot
 from laidplates.tables import Table
 from laidplates.webs import knots, row_of, sound
-
-
-def table_of(cells, kinds):
-    return Table(cells, tuple(sorted(set(kinds))))
-
-
-def tied(cells, pairs, more=()):
-    """A table with just these ties (r, w), and a kind that reads nothing for each cell tied."""
-    kinds = [(w, (r,)) for r, w in pairs] + [(cell, ()) for pair in pairs for cell in pair]
-    return table_of(cells, kinds + list(more))
-
-
-def changing_by_hand(table):
-    return sorted({kind[0] for kind in table.kinds})
-
-
-def ties_by_hand(table):
-    return {(r, w) for w, reads in table.kinds for r in reads if r != w and r in changing_by_hand(table)}
-
-
-def is_led(pairs, a, b):
-    """Whether ties lead from a to b, by going from cell to cell."""
-    seen, coming = {a}, [a]
-    while coming:
-        cell = coming.pop()
-        for r, w in pairs:
-            if r == cell and w not in seen:
-                seen.add(w)
-                coming.append(w)
-    return b in seen
-
-
-def knots_by_hand(table):
-    cells = changing_by_hand(table)
-    pairs = ties_by_hand(table)
-    return sorted({tuple(b for b in cells if is_led(pairs, a, b) and is_led(pairs, b, a)) for a in cells})
-
-
-def row_by_hand(table, knot):
-    pairs = [(r, w) for r, w in ties_by_hand(table) if r in knot and w in knot]
-    for row in permutations(knot):
-        if all(abs(row.index(r) - row.index(w)) == 1 for r, w in pairs):
-            return row
-    return None
-
-
-def sound_by_hand(table):
-    found = []
-    for knot in knots_by_hand(table):
-        reading = [len(set(reads) & set(knot)) for cell, reads in table.kinds if cell in knot]
-        if row_by_hand(table, knot) is not None and max(reading) < 2:
-            found.append(knot)
-    return found
 
 
 class WebTests(unittest.TestCase):
