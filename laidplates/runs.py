@@ -150,7 +150,7 @@ def run_in_open_row(table, knot):
     z = cell_beyond(table, knot, kind)
     cells = changing(table)
     a, b, c = row_of(table, knot)
-    if kind[0] == c or c in kind[1]:
+    if kind[0] == c:
         a, c = c, a
     brought = [("do", number), copying(table, cells, b, a), copying(table, cells, a, b)]
     if kind[0] == b:

@@ -266,6 +266,11 @@ class PlainTests(unittest.TestCase):
         all_three = [(0, (1, 3)), (1, (0, 3)), (1, (2, 3)), (2, (1, 3)), (3, ())]
         self.assertIsNone(self.same_as_the_fact(table_of(4, all_three)))
 
+    def test_ties_that_lead_out_of_a_knot_or_into_it_are_no_ties_within(self):
+        kinds = [(0, (1,)), (1, (0,)), (1, (2,)), (2, (1,)), (3, ())]
+        for more in ([(0, (3, 4)), (4, ())], [(0, (3,)), (4, (0, 3))], [(1, (0, 3)), (4, (0, 1, 2)), (5, (2, 4))]):
+            self.assertIs(self.same_as_the_fact(table_of(6, kinds + more)), False)
+
     def test_only_sound_knots_of_three_cells_make_a_table_not_plain(self):
         self.assertIs(self.same_as_the_fact(tied(4, [], [(0, (1, 3)), (1, (0, 3)), (3, ())])), True)
         self.assertIs(self.same_as_the_fact(table_of(4, [(0, (1, 3)), (1, (2, 3)), (2, (0, 3)), (3, ())])), False)
