@@ -8,6 +8,7 @@ from laidplates.places import fewest_places
 from laidplates.runs import never_stuck
 from laidplates.standings import count_sticking, shortest_sticking
 from laidplates.sticking import is_sticking, never_sticks
+from laidplates.sweeps import sweep_order
 from laidplates.tables import Table, fresh, present, sources
 from laidplates.webs import knots, row_of, sound
 from laidplates.worlds import bits_of
@@ -52,6 +53,10 @@ class ExampleTests(unittest.TestCase):
     def test_e08(self):
         self.assertIs(never_stuck(t), True)
         self.assertEqual(fewest_places(f), 1)
+
+    def test_e09(self):
+        self.assertIs(sweep_order(t), None)
+        self.assertEqual(sweep_order(Table(2, ((0, ()), (1, (0,))))), (0, 1))
 
 
 if __name__ == "__main__":

@@ -6,17 +6,21 @@ import unittest
 from helping import F, T, WITH_DEAD_ENDS, raised, some_cases
 from laidplates.bars import bar, is_bar
 from laidplates.deriving import can_cut, derived, is_safe, lost, redo
-from laidplates.errors import BadTable, NoCell, NoDeed, NoJournal, NoKnot, NoLot, NoNumber, NoPlates, NoRun
+from laidplates.errors import (BadTable, NoCell, NoDeed, NoJournal, NoKnot, NoLot, NoNumber, NoOrder, NoPlates, NoRun,
+                               NoWeaving)
+from laidplates.hands import judged_hand, led
 from laidplates.layings import at_once, count_layings, harmed, is_laying_out, lay_out
 from laidplates.places import fewest_places, is_enough, lay_out_kept, sticking_kept
 from laidplates.runs import behind, is_plain, is_run, is_stuck_run, stuck_run
+from laidplates.spares import lay_out_spared
 from laidplates.standings import count_sticking, shortest_sticking
 from laidplates.sticking import is_sticking, sticking
+from laidplates.sweeps import is_sweep_order, is_whole, spoiling, sweep_order, swept
 from laidplates.tables import Table, fresh, is_journal, is_plates, present, sources
 from laidplates.webs import knots, row_of, sound
 from laidplates.worlds import is_parting, parting
 
-OF_SAFE_PLATES = (redo, can_cut, lay_out, count_layings, at_once, bar)
+OF_SAFE_PLATES = (redo, can_cut, lay_out, count_layings, at_once, bar, lay_out_spared)
 OF_PLATES = (derived, lost, parting)
 CASES = [*WITH_DEAD_ENDS, *some_cases(61, 40, 4, 10), (F, (0, 1, 0), (-1, -2)), (T, (0, 1), (-1, -2))]
 
@@ -38,15 +42,27 @@ def answers(table, journal, plates):
     told += [harmed(table, journal, plates, cell) for cell in range(table.cells)]
     if is_safe(table, journal, plates):
         told += [action(table, journal, plates) for action in OF_SAFE_PLATES]
-    told += [lay_out_kept(table, journal, (0,)), behind(table, tuple(("do", kind) for kind in journal))]
+    deeds = tuple(("do", kind) for kind in journal)
+    order = tuple(reversed(range(table.cells)))
+    told += [lay_out_kept(table, journal, (0,)), behind(table, deeds), led(table, journal, laying_at_once)]
+    told += [swept(table, order, deeds + (("sweep",),) * table.cells), spoiling(table, order)]
     return told + answers_of_table(table)
+
+
+def laying_at_once(view):
+    return view.index(()) if () in view else None
+
+
+def waiting(view):
+    return None
 
 
 def answers_of_table(table):
     told = [sticking(table), sticking_kept(table, ()), sticking_kept(table, (0,)), fewest_places(table)]
+    told += [sweep_order(table)]
     told += [stuck_run(table)] if is_plain(table) else []
     if table.cells < 4:
-        told += [shortest_sticking(table), count_sticking(table, 5)]
+        told += [shortest_sticking(table), count_sticking(table, 5), judged_hand(table, waiting)]
     return told
 
 
@@ -77,6 +93,10 @@ class GeneralTests(unittest.TestCase):
         self.assertIs(type(raised(behind, T, [("do", 1)])), NoRun)
         self.assertIs(type(raised(lay_out_kept, T, (), (False,))), NoLot)
         self.assertIs(type(raised(sticking_kept, T, [0])), NoLot)
+        self.assertIs(type(raised(spoiling, T, (False, True))), NoOrder)
+        self.assertIs(type(raised(spoiling, T, [0, 1])), NoOrder)
+        self.assertIs(type(raised(swept, T, (0, 1), (("do", True), ("sweep",), ("sweep",)))), NoWeaving)
+        self.assertIs(type(raised(swept, T, (0, 1), [("sweep",), ("sweep",)])), NoWeaving)
 
     def test_arguments_are_not_changed(self):
         told = bar(F, (0, 1, 0), (-1, -2))
@@ -91,9 +111,16 @@ class GeneralTests(unittest.TestCase):
             is_laying_out(T, (0, 1), (-1, -2), thing)
             is_bar(F, (0, 1, 0), (-1, -2), thing)
             raised(row_of, T, thing)
-            for action in (is_sticking, count_sticking, is_run, is_stuck_run, behind, is_enough, sticking_kept):
+            for action in (is_sticking, count_sticking, is_run, is_stuck_run, behind, is_enough, sticking_kept,
+                           is_sweep_order, spoiling):
                 raised(action, F, thing)
+            for action in (is_whole, swept):
+                raised(action, F, (0, 1), thing)
+                raised(action, F, thing, thing)
             raised(lay_out_kept, F, (0, 1), thing)
+            raised(lay_out_spared, F, (0, 1), thing)
+            raised(led, F, (0, 1), lambda view: thing)
+            raised(led, F, thing, waiting)
             self.assertEqual(thing, kept)
         self.assertEqual((T.cells, T.kinds), (2, ((0, (1,)), (1, (0,)))))
 
@@ -117,6 +144,8 @@ class GeneralTests(unittest.TestCase):
             self.assertIs(type(raised(count_sticking, T, great)), NoNumber)
             self.assertIs(type(raised(behind, T, (("do", great),))), NoRun)
             self.assertIs(type(raised(lay_out_kept, T, (0,), (great,))), NoLot)
+            self.assertIs(type(raised(spoiling, T, (0, great))), NoOrder)
+            self.assertIs(type(raised(swept, T, (0, 1), (("sweep",), ("sweep",), ("do", great)))), NoWeaving)
 
     def test_what_was_returned_may_be_passed_on(self):
         for table, journal, plates in CASES:
@@ -133,6 +162,8 @@ class GeneralTests(unittest.TestCase):
             self.assertIs(is_sticking(table, sticking(table)), sticking(table) is not None)
             if is_plain(table):
                 self.assertIs(is_stuck_run(table, stuck_run(table)), stuck_run(table) is not None)
+            self.assertIs(is_run(table, led(table, journal, laying_at_once)), True)
+            self.assertIs(is_sweep_order(table, sweep_order(table)), sweep_order(table) is not None)
 
 
 if __name__ == "__main__":

@@ -35,6 +35,12 @@ FUNCTIONS = {
         "lay_out_kept": ["table", "journal", "lot"], "is_enough": ["table", "thing"], "fewest_places": ["table"],
         "sticking_kept": ["table", "lot"],
     },
+    "spares": {"lay_out_spared": ["table", "journal", "plates"]},
+    "sweeps": {
+        "is_whole": ["table", "order", "thing"], "is_sweep_order": ["table", "thing"],
+        "swept": ["table", "order", "weaving"], "sweep_order": ["table"], "spoiling": ["table", "order"],
+    },
+    "hands": {"led": ["table", "journal", "hand"], "judged_hand": ["table", "hand"]},
 }
 CLASSES = {"tables": {"Table": {"__init__": ["self", "cells", "kinds"], "__eq__": ["self", "other"]}}}
 
