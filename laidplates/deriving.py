@@ -11,13 +11,13 @@ def derived(table, journal, plates):
     return tuple(sorted(marks))
 
 
-def derived_marks(rows, plates):
-    """A dict whose keys are the derived versions; rows are the sources of the deeds.
+def derived_marks(rows, plates, first=0):
+    """A dict whose keys are the derived versions; rows are the sources of the deeds from the number first on.
 
     One pass is enough, as a deed reads no versions but those ahead of it.
     """
     marks = {version: True for version in plates}
-    for deed, row in enumerate(rows):
+    for deed, row in enumerate(rows, start=first):
         if all([version in marks for version in row]):
             marks[deed] = True
     return marks
@@ -29,9 +29,9 @@ def lost(table, journal, plates):
     return lost_cells(source_rows(table, journal), last_versions(table, journal), plates)
 
 
-def lost_cells(rows, last, plates):
-    """The cells whose present, out of last, is not derived; rows are the sources of the deeds."""
-    marks = derived_marks(rows, plates)
+def lost_cells(rows, last, plates, first=0):
+    """The cells whose present, out of last, is not derived; rows are the sources of the deeds from first on."""
+    marks = derived_marks(rows, plates, first)
     return tuple([cell for cell, version in enumerate(last) if version not in marks])
 
 
@@ -47,19 +47,23 @@ def check_safe(table, journal, plates):
 
 
 def redo(table, journal, plates):
-    """The deeds that have to be done again so that all presents are there.
+    """The deeds that have to be done again so that all presents are there."""
+    check_safe(table, journal, plates)
+    return deeds_again(source_rows(table, journal), last_versions(table, journal), plates)
+
+
+def deeds_again(rows, last, plates, first=0):
+    """The deeds to be done again so that the presents, last, are there; rows are the sources from first on.
 
     It goes from the last deed to the first, as what needs a deed is behind it.
     """
-    check_safe(table, journal, plates)
-    rows = source_rows(table, journal)
     there = {version: True for version in plates}
-    needed = {version: True for version in last_versions(table, journal)}
+    needed = {version: True for version in last}
     again = []
-    for deed in reversed(range(len(journal))):
-        if deed in needed and deed not in there:
-            again.append(deed)
-            for version in rows[deed]:
+    for at in reversed(range(len(rows))):
+        if first + at in needed and first + at not in there:
+            again.append(first + at)
+            for version in rows[at]:
                 needed[version] = True
     return tuple(sorted(again))
 

@@ -22,7 +22,11 @@ def laid(last, plates, lot):
 
 def cells_to_lay(table, journal, plates):
     """The lot of the cells whose plates do not hold their presents."""
-    last = last_versions(table, journal)
+    return not_held(last_versions(table, journal), plates)
+
+
+def not_held(last, plates):
+    """The lot of the cells whose plates do not hold their presents, last."""
     return tuple([cell for cell, version in enumerate(plates) if version != last[cell]])
 
 

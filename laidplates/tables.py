@@ -66,8 +66,13 @@ def present(table, journal):
 
 def last_versions(table, journal):
     """The present of each cell, for what surely is a journal."""
-    last = list(fresh(table))
-    for deed, kind in enumerate(journal):
+    return last_behind(table, 0, fresh(table), journal)
+
+
+def last_behind(table, first, ahead, journal):
+    """The present of each cell behind deeds from the number first on, the presents ahead of these being given."""
+    last = list(ahead)
+    for deed, kind in enumerate(journal, start=first):
         last[table.kinds[kind][0]] = deed
     return tuple(last)
 
@@ -82,9 +87,14 @@ def sources(table, journal, deed):
 
 def source_rows(table, journal):
     """The list of the sources of all deeds, for what surely is a journal."""
-    last = list(fresh(table))
+    return rows_behind(table, 0, fresh(table), journal)
+
+
+def rows_behind(table, first, ahead, journal):
+    """The list of the sources of deeds from the number first on, the presents ahead of these being given."""
+    last = list(ahead)
     rows = []
-    for deed, kind in enumerate(journal):
+    for deed, kind in enumerate(journal, start=first):
         cell, reads = table.kinds[kind]
         rows.append(tuple([last[read] for read in reads]))
         last[cell] = deed

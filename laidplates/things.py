@@ -49,5 +49,12 @@ def is_step(word, end, thing):
     return is_word(word, thing[0]) and is_number_below(end, thing[1])
 
 
+def is_name(thing):
+    """Whether the thing is a string of 1 to 8 letters a to z."""
+    if not isinstance(thing, str) or not 1 <= len(thing) <= 8:
+        return False
+    return all(["a" <= sign <= "z" for sign in thing])
+
+
 def is_word(word, thing):
     return isinstance(thing, str) and thing == word

@@ -18,8 +18,8 @@ METHODS = set("""append clear copy count endswith extend find get index insert i
     isupper items join keys ljust lower lstrip partition pop remove replace reverse rfind rjust rpartition rsplit
     rstrip setdefault split splitlines startswith strip update upper values zfill bit_length add discard sort
     __init__""".split())
-BARRED = re.compile(r"\b(type|typing|typing_extensions|enum|Enum|IntEnum|StrEnum|Flag|IntFlag|Generic|Protocol|ABC"
-                    r"|ABCMeta|namedtuple|NamedTuple|TypedDict|TYPE_CHECKING|abstractmethod)\b"
+BARRED = re.compile(r"\b(type(?!\()|typing|typing_extensions|enum|Enum|IntEnum|StrEnum|Flag|IntFlag|Generic|Protocol"
+                    r"|ABC|ABCMeta|namedtuple|NamedTuple|TypedDict|TYPE_CHECKING|abstractmethod)\b"
                     r"|dataclass|overload|contextmanager|_wall")
 NAMES = set("""register mro elements open input law version_info with_traceback add_note attrgetter breakpoint builtins
     compile copyright credits delattr dir eval exec exit gc getattr globals hasattr help id importlib license locals
@@ -28,8 +28,21 @@ LAZY = (ast.GeneratorExp, ast.Yield, ast.YieldFrom)
 UNUSED = (ast.AsyncFunctionDef, ast.Await, ast.Global, ast.ImportFrom, ast.Import, ast.Div, ast.SetComp)
 
 
+def is_type_call(node):
+    return isinstance(node, ast.Call) and isinstance(node.func, ast.Name) and node.func.id == "type"
+
+
+def methods_of(tree):
+    return [one for node in tree.body if isinstance(node, ast.ClassDef) for one in node.body
+            if isinstance(one, ast.FunctionDef)]
+
+
 def bound_names(tree):
+    """All names that are bound, but those of methods."""
+    methods = methods_of(tree) if isinstance(tree, ast.Module) else []
     for node in ast.walk(tree):
+        if node in methods:
+            continue
         if isinstance(node, ast.Name) and not isinstance(node.ctx, ast.Load):
             yield node.id
         elif isinstance(node, ast.arg):
@@ -83,7 +96,9 @@ class LanguageTests(unittest.TestCase):
                     self.assertFalse(seen_other, path)
                     package, _, file = node.module.partition(".")
                     self.assertEqual((package, node.level), ("laidplates", 0), path)
-                    own = {one.name for one in TREES[FOLDER / (file + ".py")].body if hasattr(one, "name")}
+                    body = TREES[FOLDER / (file + ".py")].body
+                    own = {one.name for one in body if hasattr(one, "name")}
+                    own |= {one.targets[0].id for one in body if isinstance(one, ast.Assign)}
                     self.assertTrue(own.issuperset(name.name for name in node.names), path)
                     self.assertTrue(all(name.asname is None for name in node.names), path)
                 elif at > 0:
@@ -104,15 +119,29 @@ class LanguageTests(unittest.TestCase):
             for name in bound_names(tree):
                 self.assertNotIn(name, NAMES, path)
                 self.assertNotIn(name, imported, path)
-                own_method = name in ("__init__", "__eq__")
-                self.assertTrue(own_method or not hasattr(builtins, name), (path, name))
-                self.assertTrue(own_method or not name.startswith("__"), (path, name))
+                self.assertTrue(not hasattr(builtins, name), (path, name))
+                self.assertTrue(not name.startswith("__"), (path, name))
+            for method in methods_of(tree):
+                self.assertNotIn(method.name, NAMES, path)
+                self.assertTrue(method.name in ("__init__", "__eq__") or not method.name.startswith("__"), path)
             inner = [name for node in ast.walk(tree) if isinstance(node, ast.FunctionDef)
                      for name in bound_names(node)]
             self.assertFalse(classes & set(inner), path)
             for node in ast.walk(tree):
                 if isinstance(node, ast.Name) and hasattr(builtins, node.id):
-                    self.assertIn(node.id, BUILTINS, path)
+                    self.assertIn(node.id, BUILTINS | {"type"}, path)
+
+    def test_kinds_of_values_are_only_compared_or_named(self):
+        for path, tree in TREES.items():
+            asked = []
+            for node in ast.walk(tree):
+                if isinstance(node, ast.Compare) or isinstance(node, ast.Attribute) and node.attr == "__name__":
+                    asked.append(node.left if isinstance(node, ast.Compare) else node.value)
+                if isinstance(node, ast.Attribute):
+                    self.assertTrue(node.attr == "__init__" or node.attr[:2] != "__" or is_type_call(node.value), path)
+            for node in ast.walk(tree):
+                if is_type_call(node):
+                    self.assertIn(node, asked, (path, node.lineno))
 
     def test_words(self):
         for path, tree in TREES.items():
@@ -131,7 +160,10 @@ class LanguageTests(unittest.TestCase):
                 if isinstance(node, ast.Compare):
                     for sign, side in zip(node.ops, node.comparators):
                         plain = isinstance(side, ast.Constant) and side.value in (None, True, False)
+                        plain = plain or is_type_call(node.left)
                         self.assertTrue(plain or not isinstance(sign, (ast.Is, ast.IsNot)), where)
+                if isinstance(node, ast.Try):
+                    self.assertTrue(all(isinstance(row, ast.Assign) for row in node.finalbody), where)
 
     def test_methods_of_built_in_values(self):
         own = {node.name for tree in TREES.values() for node in ast.walk(tree) if isinstance(node, ast.FunctionDef)}
