@@ -2,7 +2,11 @@
 
 from itertools import permutations, product
 
+from laidplates.benches import Bench
+from laidplates.desks import Desk
+from laidplates.disks import Disk
 from laidplates.errors import BadTable, NoJournal, NoPlates, NotSafe
+from laidplates.presses import begun
 from laidplates.tables import Table
 
 T = Table(2, ((0, (1,)), (1, (0,))))
@@ -42,7 +46,8 @@ def things():
         (0, True), (-1, False), (None,), (None, None), ("a",), ("0", "1"), (b"a", 0), ((),), ((), ()),
         ((), (), ()), ([],), ([0], [1]), ({},), ((0,), (1,)), ((0, 1), (1, 0)), (len, int), (..., ...),
     ]
-    objects = [table, NoJournal(), BadTable([table], table), Table]
+    objects = [table, NoJournal(), BadTable([table], table), Table, Disk(), Bench(table), Desk(),
+               begun(Disk(), table, (0,))]
     within = [(table,), [table], (table, table), {"a": table}, {0: (table,)}, ((table, 0),), (0, table),
               (0, NoJournal()), ((0, (table,)),), {NoJournal(): 0}]
     deep = [nested(lambda inner: (inner,), leaf, 39) for leaf in ((), 0, True, table)]
@@ -199,6 +204,31 @@ def sound_by_hand(table):
         if row_by_hand(table, knot) is not None and max(reading) < 2:
             found.append(knot)
     return found
+
+
+def is_open_by_hand(table, knot):
+    cells = set(changing_by_hand(table))
+    return any(cell in knot and (set(reads) & cells) - set(knot) for cell, reads in table.kinds)
+
+
+def is_plain_by_hand(table):
+    cells = set(changing_by_hand(table))
+    alone = {(r, w) for w, reads in table.kinds for r in reads if set(reads) & cells == {r}}
+    return all((r, w) in alone for knot in sound_by_hand(table) if len(knot) == 3 and is_open_by_hand(table, knot)
+               for r, w in ties_by_hand(table) if r in knot and w in knot)
+
+
+def is_settled_by_hand(table):
+    knots = knots_by_hand(table)
+    return knots == sound_by_hand(table) and all(
+        len(knot) < 3 or len(knot) == 3 and not is_open_by_hand(table, knot) for knot in knots)
+
+
+def open_row(order, w, reads, of_z, more=()):
+    """A row of three cells, then a cell z beyond, which the kind (w, reads with z) reads."""
+    a, b, c, z = order
+    kinds = [(a, (b,)), (b, (a,)), (b, (c,)), (c, (b,)), (w, tuple(sorted({*reads, z}))), (z, of_z)]
+    return table_of(max(order) + 1, kinds + list(more))
 
 
 def ends_by_hand(table, journal):

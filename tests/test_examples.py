@@ -2,14 +2,19 @@
 
 import unittest
 
+from laidplates.benches import Bench
+from laidplates.classes import alike, count_far, telling
 from laidplates.deriving import can_cut, derived, lost, redo
+from laidplates.desks import tale
 from laidplates.layings import count_layings, harmed, lay_out
+from laidplates.mendings import mendings, most_ordered, most_ties
 from laidplates.places import fewest_places
 from laidplates.runs import never_stuck
 from laidplates.standings import count_sticking, shortest_sticking
 from laidplates.sticking import is_sticking, never_sticks
 from laidplates.sweeps import sweep_order
 from laidplates.tables import Table, fresh, present, sources
+from laidplates.texts import table_text
 from laidplates.webs import knots, row_of, sound
 from laidplates.worlds import bits_of
 
@@ -57,6 +62,28 @@ class ExampleTests(unittest.TestCase):
     def test_e09(self):
         self.assertIs(sweep_order(t), None)
         self.assertEqual(sweep_order(Table(2, ((0, ()), (1, (0,))))), (0, 1))
+
+    def test_e10(self):
+        self.assertEqual(table_text(f), "cells 2\nkind 0 0 1\nkind 1 0\n")
+
+    def test_e11(self):
+        bench = Bench(t)
+        self.assertEqual((bench.knots(), bench.verdict()), ([(0, 1)], "never"))
+        bench.add_kind((0, (0, 1)))
+        self.assertEqual((bench.bad_knots(), bench.verdict()), ([(0, 1)], "sticks"))
+
+    def test_e12(self):
+        self.assertEqual(mendings(f), [(0,), (1,)])
+        self.assertEqual((most_ties(5), most_ordered(5)), (12, 10))
+
+    def test_e13(self):
+        self.assertIs(alike(f, (0,), (0, 0)), True)
+        self.assertEqual(telling(f, (), (0, 1)), (0,))
+        self.assertEqual(count_far(f, 3, 7), 1)
+
+    def test_e14(self):
+        self.assertEqual(tale(["bench b cells 2;kind 0 1;kind 1 0;", "press p b", "do p 0", "values p", "lays p",
+                               "plates p"]), ["ok", "ok", "ok", "1 0", "0", "0 -2"])
 
 
 if __name__ == "__main__":

@@ -41,8 +41,50 @@ FUNCTIONS = {
         "swept": ["table", "order", "weaving"], "sweep_order": ["table"], "spoiling": ["table", "order"],
     },
     "hands": {"led": ["table", "journal", "hand"], "judged_hand": ["table", "hand"]},
+    "presses": {"begun": ["disk", "table", "begins"]},
+    "texts": {
+        "table_text": ["table"], "journal_text": ["table", "journal"], "run_text": ["table", "run"],
+    },
+    "reading": {"read_table": ["text"], "read_journal": ["table", "text"], "read_run": ["table", "text"]},
+    "benches": {"replayed": ["table", "thing"]},
+    "mendings": {
+        "mendings": ["table"], "cheapest_mending": ["table", "prices"], "is_mending": ["table", "thing"],
+        "most_ties": ["cells"], "most_ordered": ["cells"], "tied_table": ["cells"],
+    },
+    "classes": {
+        "alike": ["table", "one", "other"], "telling": ["table", "one", "other"], "classes": ["table"],
+        "first_of_classes": ["table"], "count_far": ["table", "many", "p"],
+    },
+    "desks": {"tale": ["lines"]},
 }
-CLASSES = {"tables": {"Table": {"__init__": ["self", "cells", "kinds"], "__eq__": ["self", "other"]}}}
+CLASSES = {
+    "tables": {"Table": {"__init__": ["self", "cells", "kinds"], "__eq__": ["self", "other"]}},
+    "disks": {
+        "Disk": {
+            "__init__": ["self"], "content": ["self"], "write": ["self", "cell", "thing"],
+            "power": ["self", "writes"], "written": ["self"],
+        },
+    },
+    "presses": {
+        "Press": {
+            "__init__": ["self", "disk", "table"], "do": ["self", "kind", "maker"], "value": ["self", "cell"],
+            "plate": ["self", "cell"], "kept": ["self"], "plates": ["self"], "redone": ["self"],
+            "harmed": ["self", "cell"], "lay": ["self", "cell"], "lay_all": ["self"], "cut": ["self"],
+            "sweep": ["self", "order"], "go_on": ["self"], "turn_over": ["self"],
+        },
+    },
+    "benches": {
+        "Bench": {
+            "__init__": ["self", "table"], "now": ["self"], "knots": ["self"], "bad_knots": ["self"],
+            "rows": ["self"], "verdict": ["self"], "add_kind": ["self", "kind"], "drop_kind": ["self", "kind"],
+            "add_cell": ["self"], "drop_cell": ["self", "cell"], "joined": ["self", "kind"],
+            "parted": ["self", "kind"], "undo": ["self"], "redo": ["self"], "many_done": ["self"],
+            "mark": ["self", "name"], "marks": ["self"], "go_to": ["self", "name"], "copy": ["self"],
+            "trying": ["self", "action"], "journal": ["self"],
+        },
+    },
+    "desks": {"Desk": {"__init__": ["self"], "tell": ["self", "line"]}},
+}
 
 
 def arguments_of(action):

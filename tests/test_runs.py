@@ -3,9 +3,9 @@
 import unittest
 from itertools import permutations, product
 
-from helping import (F, T, Dice, all_come_back, begins, can_lay_out, changing_by_hand, ends_by_hand, filled_up,
-                     is_number, knots_by_hand, presents_by_hand, raised, ring, row, some_table, sound_by_hand,
-                     table_of, tables_of_two_cells, things, tied, ties_by_hand)
+from helping import (F, T, Dice, all_come_back, begins, can_lay_out, ends_by_hand, filled_up, is_number,
+                     is_plain_by_hand, is_settled_by_hand, open_row, presents_by_hand, raised, ring, row, some_table,
+                     table_of, tables_of_two_cells, things, tied)
 from laidplates.errors import NoRun, NotPlain
 from laidplates.runs import behind, is_plain, is_run, is_stuck_run, never_stuck, stuck_run
 from laidplates.tables import Table
@@ -49,31 +49,6 @@ def some_run(dice, table, steps, lays):
         if end_by_hand(table, run + (step,)) is not None:
             run += (step,)
     return run
-
-
-def is_open_by_hand(table, knot):
-    cells = set(changing_by_hand(table))
-    return any(cell in knot and (set(reads) & cells) - set(knot) for cell, reads in table.kinds)
-
-
-def is_plain_by_hand(table):
-    cells = set(changing_by_hand(table))
-    alone = {(r, w) for w, reads in table.kinds for r in reads if set(reads) & cells == {r}}
-    return all((r, w) in alone for knot in sound_by_hand(table) if len(knot) == 3 and is_open_by_hand(table, knot)
-               for r, w in ties_by_hand(table) if r in knot and w in knot)
-
-
-def is_settled_by_hand(table):
-    knots = knots_by_hand(table)
-    return knots == sound_by_hand(table) and all(
-        len(knot) < 3 or len(knot) == 3 and not is_open_by_hand(table, knot) for knot in knots)
-
-
-def open_row(order, w, reads, of_z, more=()):
-    """A row of three cells, then a cell z beyond, which the kind (w, reads with z) reads."""
-    a, b, c, z = order
-    kinds = [(a, (b,)), (b, (a,)), (b, (c,)), (c, (b,)), (w, tuple(sorted({*reads, z}))), (z, of_z)]
-    return table_of(max(order) + 1, kinds + list(more))
 
 
 class RunTests(unittest.TestCase):
